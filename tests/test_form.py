@@ -1,0 +1,179 @@
+"""LANGUAGE.md, as far as a look at the written files can tell it; and [1]: no clock, chance or file."""
+
+import ast
+import builtins
+import pathlib
+import re
+import unittest
+
+PACKAGE = pathlib.Path(__file__).resolve().parent.parent / "webdown"
+
+OWN_NAMES_OF_PYTHON = set(
+    "len range enumerate zip min max sum abs sorted reversed int str bool list tuple dict set frozenset"
+    " isinstance ord repr any all divmod Exception ValueError TypeError KeyError IndexError LookupError"
+    " ZeroDivisionError ArithmeticError OverflowError RuntimeError NotImplementedError AttributeError"
+    " StopIteration".split()
+)
+
+METHODS = set(
+    "append clear copy count endswith extend find get index insert isalnum isalpha isdigit islower isspace"
+    " isupper items join keys ljust lower lstrip partition pop remove replace reverse rfind rjust rpartition"
+    " rsplit rstrip setdefault split splitlines startswith strip update upper values zfill bit_length".split()
+)
+
+OTHER_METHODS_OF_PYTHON = {
+    name for kind in (int, str, list, tuple, dict, set, bytes) for name in dir(kind) if not name.startswith("_")
+} - METHODS
+
+WORDS_THAT_STAND_NOWHERE = re.compile(
+    r"\b(type|typing|typing_extensions|enum|Enum|IntEnum|StrEnum|Flag|IntFlag|Generic|Protocol|ABC|ABCMeta"
+    r"|namedtuple|NamedTuple|TypedDict|TYPE_CHECKING|abstractmethod)\b|dataclass|overload|contextmanager"
+)
+
+LEFT_OUT = (
+    ast.Import,
+    ast.With,
+    ast.Match,
+    ast.Delete,
+    ast.Global,
+    ast.Nonlocal,
+    ast.Assert,
+    ast.Yield,
+    ast.YieldFrom,
+    ast.Await,
+    ast.AsyncFunctionDef,
+    ast.AsyncFor,
+    ast.AsyncWith,
+    ast.NamedExpr,
+    ast.Starred,
+    ast.SetComp,
+    ast.DictComp,
+    ast.GeneratorExp,
+)
+
+
+def files():
+    return sorted(path for path in PACKAGE.rglob("*") if "__pycache__" not in path.parts)
+
+
+def trees():
+    return [(path.name, ast.parse(path.read_text(encoding="utf-8"))) for path in files()]
+
+
+def nodes(kinds):
+    return [(name, node) for name, tree in trees() for node in ast.walk(tree) if isinstance(node, kinds)]
+
+
+class TestFiles(unittest.TestCase):
+    def test_only_plain_files_lie_in_the_package(self):
+        self.assertIn(PACKAGE / "__init__.py", files())
+        for path in files():
+            with self.subTest(path.name):
+                self.assertTrue(path.is_file())
+                self.assertRegex(path.name, r"^([a-z][a-z0-9_]*|__init__)\.py$")
+
+    def test_signs_and_sizes(self):
+        for path in files():
+            text = path.read_text(encoding="utf-8")
+            with self.subTest(path.name):
+                self.assertRegex(text, r"\A[ -~\n]*\Z")
+                self.assertLessEqual(len(text.splitlines()), 400)
+                self.assertLessEqual(max(len(line) for line in text.splitlines()), 120)
+
+    def test_words_that_stand_nowhere(self):
+        for path in files():
+            with self.subTest(path.name):
+                self.assertIsNone(WORDS_THAT_STAND_NOWHERE.search(path.read_text(encoding="utf-8")))
+
+
+class TestStatements(unittest.TestCase):
+    def test_imports_are_the_packages_own(self):
+        for name, node in nodes(ast.ImportFrom):
+            with self.subTest(file=name, line=node.lineno):
+                self.assertEqual(node.level, 0)
+                self.assertRegex(node.module, r"^webdown\.[a-z_]+$")
+                for drawn in node.names:
+                    self.assertNotEqual(drawn.name, "*")
+
+    def test_nothing_of_what_is_left_out(self):
+        self.assertEqual([(name, node.lineno) for name, node in nodes(LEFT_OUT)], [])
+        self.assertEqual(nodes((ast.Div, ast.MatMult)), [])
+
+    def test_values_are_no_floats_and_no_bytes(self):
+        for name, node in nodes(ast.Constant):
+            with self.subTest(file=name, line=node.lineno):
+                self.assertIn(type(node.value), (int, str, bool, type(None)))
+
+    def test_texts_are_plain(self):
+        for name, node in nodes(ast.FormattedValue):
+            with self.subTest(file=name, line=node.lineno):
+                self.assertIsInstance(node.value, ast.Name)
+                self.assertIsNone(node.format_spec)
+        for name, node in nodes(ast.Constant):
+            with self.subTest(file=name, line=node.lineno):
+                self.assertNotIn("%", str(node.value))
+
+    def test_one_target_and_no_else_behind_a_loop(self):
+        self.assertEqual([name for name, node in nodes(ast.Assign) if len(node.targets) != 1], [])
+        self.assertEqual([name for name, node in nodes((ast.For, ast.While)) if node.orelse], [])
+        self.assertEqual([name for name, node in nodes(ast.Try) if node.finalbody], [])
+
+    def test_a_comprehension_has_one_for_and_at_most_one_if(self):
+        for name, node in nodes(ast.ListComp):
+            with self.subTest(file=name, line=node.lineno):
+                self.assertEqual(len(node.generators), 1)
+                self.assertLessEqual(len(node.generators[0].ifs), 1)
+
+    def test_is_stands_beside_none_and_truths_alone(self):
+        for name, node in nodes(ast.Compare):
+            for sign, right in zip(node.ops, node.comparators):
+                if isinstance(sign, (ast.Is, ast.IsNot)):
+                    with self.subTest(file=name, line=node.lineno):
+                        self.assertIsInstance(right, ast.Constant)
+                        self.assertIn(right.value, (None, True, False))
+
+
+class TestDefs(unittest.TestCase):
+    def test_functions_are_small_and_plain(self):
+        for name, node in nodes(ast.FunctionDef):
+            with self.subTest(file=name, function=node.name):
+                self.assertLessEqual(node.end_lineno - node.lineno + 1, 40)
+                self.assertEqual(node.decorator_list, [])
+                self.assertIsNone(node.args.vararg)
+                self.assertIsNone(node.args.kwarg)
+                self.assertEqual(node.args.kwonlyargs, [])
+
+    def test_classes_are_plain(self):
+        for name, node in nodes(ast.ClassDef):
+            with self.subTest(file=name, line=node.lineno):
+                self.assertEqual(node.decorator_list, [])
+                self.assertLessEqual(len(node.bases), 1)
+                for inner in node.body:
+                    self.assertIsInstance(inner, (ast.FunctionDef, ast.Pass))
+
+
+class TestNames(unittest.TestCase):
+    def test_names_of_python_are_the_listed_ones(self):
+        for name, node in nodes(ast.Name):
+            if hasattr(builtins, node.id):
+                with self.subTest(file=name, line=node.lineno):
+                    self.assertIn(node.id, OWN_NAMES_OF_PYTHON)
+                    self.assertIsInstance(node.ctx, ast.Load)
+
+    def test_names_do_not_begin_with_an_underscore(self):
+        bound = [(name, node.id) for name, node in nodes(ast.Name)]
+        bound += [(name, node.arg) for name, node in nodes(ast.arg)]
+        bound += [(name, node.name) for name, node in nodes(ast.FunctionDef) if node.name != "__init__"]
+        for name, word in bound:
+            with self.subTest(file=name, word=word):
+                self.assertRegex(word, r"^[A-Za-z][A-Za-z0-9_]*$")
+
+    def test_methods_are_the_listed_ones(self):
+        for name, node in nodes(ast.Attribute):
+            with self.subTest(file=name, line=node.lineno):
+                self.assertNotIn(node.attr, OTHER_METHODS_OF_PYTHON - {"add", "discard", "title"})
+
+    def test_parameters_are_not_called_like_names_of_python(self):
+        for name, node in nodes(ast.arg):
+            with self.subTest(file=name, line=node.lineno):
+                self.assertFalse(hasattr(builtins, node.arg), node.arg)

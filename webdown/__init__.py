@@ -1,0 +1,1 @@
+"""Webdown: little webs drawn together out of great ones."""

@@ -1,0 +1,51 @@
+"""Webs: how one is made, the places beside a place, the parts and the counts."""
+
+from webdown.errors import NoPlace, NoWeb, TooGreat
+from webdown.shapes import MOST_PLACES, is_place, rising
+
+
+def web_of(places, pairs):
+    known = rising(places)
+    for pair in pairs:
+        if not can_be_tied(known, pair):
+            raise NoWeb("a pair is of two unlike places of the web")
+    # Asked behind the pairs: a wrong pair is refused ahead of too many places.
+    if len(known) > MOST_PLACES:
+        raise TooGreat(f"a web has at most {MOST_PLACES} places")
+    return (known, rising([rising(pair) for pair in pairs]))
+
+
+def can_be_tied(places, pair):
+    return is_place(places, pair[0]) and is_place(places, pair[1]) and pair[0] != pair[1]
+
+
+def beside(web, place):
+    if not is_place(web[0], place):
+        raise NoPlace("there is no such place in the web")
+    return rising([other_end(tie, place) for tie in web[1] if place in tie])
+
+
+def other_end(tie, place):
+    return tie[1] if tie[0] == place else tie[0]
+
+
+def parts_of(web):
+    # Each place tells its whole part; rising keeps of the same ones one.
+    return rising([part_with(web, place) for place in web[0]])
+
+
+def part_with(web, place):
+    found = [place]
+    looked_at = 0
+    while looked_at < len(found):
+        for other in beside(web, found[looked_at]):
+            if other not in found:
+                found.append(other)
+        looked_at = looked_at + 1
+    return rising(found)
+
+
+def counts_of(web):
+    places = len(web[0])
+    ties = len(web[1])
+    return (places, ties, ties - places + len(parts_of(web)))
