@@ -86,6 +86,54 @@ class TestFiles(unittest.TestCase):
                 self.assertIsNone(WORDS_THAT_STAND_NOWHERE.search(path.read_text(encoding="utf-8")))
 
 
+def drawn_from():
+    """For each file the names that it draws from each other file."""
+    drawn = {path.stem: {} for path in files()}
+    for name, node in nodes(ast.ImportFrom):
+        drawn[name.removesuffix(".py")][node.module.removeprefix("webdown.")] = [each.name for each in node.names]
+    return drawn
+
+
+class TestImports(unittest.TestCase):
+    def test_each_name_is_drawn_from_the_file_that_defines_it(self):
+        for file, others in drawn_from().items():
+            for other, names in others.items():
+                tree = dict(trees())[f"{other}.py"]
+                defined = {node.name for node in tree.body if isinstance(node, (ast.FunctionDef, ast.ClassDef))}
+                for node in tree.body:
+                    if isinstance(node, ast.Assign):
+                        defined.add(node.targets[0].id)
+                with self.subTest(file=file, other=other):
+                    self.assertLessEqual(set(names), defined)
+
+    def test_no_two_files_draw_from_one_another(self):
+        drawn = {file: set(others) for file, others in drawn_from().items()}
+        # Those that draw from none of the others left are taken away, until none is left or each draws.
+        while any(not others & set(drawn) for others in drawn.values()):
+            drawn = {file: others for file, others in drawn.items() if others & set(drawn)}
+        self.assertEqual(drawn, {})
+
+    def test_each_drawn_name_is_used(self):
+        for name, tree in trees():
+            used = {node.id for node in ast.walk(tree) if isinstance(node, ast.Name)}
+            for names in drawn_from()[name.removesuffix(".py")].values():
+                with self.subTest(file=name):
+                    self.assertLessEqual(set(names), used)
+
+    def test_no_local_is_called_like_an_import_or_a_def_of_its_file(self):
+        for name, tree in trees():
+            tops = {node.name for node in tree.body if isinstance(node, (ast.FunctionDef, ast.ClassDef))}
+            for names in drawn_from()[name.removesuffix(".py")].values():
+                tops.update(names)
+            for function in [node for node in ast.walk(tree) if isinstance(node, ast.FunctionDef)]:
+                bound = {node.arg for node in ast.walk(function) if isinstance(node, ast.arg)}
+                for node in ast.walk(function):
+                    if isinstance(node, ast.Name) and isinstance(node.ctx, ast.Store):
+                        bound.add(node.id)
+                with self.subTest(file=name, function=function.name):
+                    self.assertEqual(bound & tops, set())
+
+
 class TestStatements(unittest.TestCase):
     def test_imports_are_the_packages_own(self):
         for name, node in nodes(ast.ImportFrom):
@@ -131,6 +179,33 @@ class TestStatements(unittest.TestCase):
                     with self.subTest(file=name, line=node.lineno):
                         self.assertIsInstance(right, ast.Constant)
                         self.assertIn(right.value, (None, True, False))
+
+
+def is_set(node):
+    return isinstance(node, ast.Call) and isinstance(node.func, ast.Name) and node.func.id in ("set", "frozenset")
+
+
+def joined_values(node):
+    """The values that signs such as & and - join, or the one value itself."""
+    if isinstance(node, ast.BinOp):
+        return joined_values(node.left) + joined_values(node.right)
+    return [node]
+
+
+class TestSets(unittest.TestCase):
+    def test_a_set_is_neither_kept_nor_walked(self):
+        for name, tree in trees():
+            asked = []
+            for node in ast.walk(tree):
+                if isinstance(node, ast.Compare):
+                    asked += [node.left, *node.comparators]
+                elif isinstance(node, ast.Call) and getattr(node.func, "id", None) in ("sorted", "len"):
+                    asked += node.args
+            right = [value for node in asked for value in joined_values(node)]
+            for node in ast.walk(tree):
+                if is_set(node):
+                    with self.subTest(file=name, line=node.lineno):
+                        self.assertTrue(any(node is each for each in right))
 
 
 class TestDefs(unittest.TestCase):

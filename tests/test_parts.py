@@ -2,17 +2,8 @@
 
 import itertools
 
-from tests.helper import FAR, FARTHEST, WebCase, all_tied, all_webs, are_tied, holds_truth, rises
+from tests.helper import FAR, FARTHEST, WebCase, all_tied, all_webs, hangs_together, holds_truth, rises
 from webdown.webs import parts_of
-
-
-def hangs_together(web, chosen):
-    """By the words of [8]: not empty, and from each to each by ties between the chosen ones."""
-    gets_to = {(one, other): one == other or are_tied(web, one, other) for one in chosen for other in chosen}
-    for between, one, other in itertools.product(chosen, repeat=3):
-        if gets_to[one, between] and gets_to[between, other]:
-            gets_to[one, other] = True
-    return len(chosen) > 0 and all(gets_to.values())
 
 
 def parts_by_the_words(web):

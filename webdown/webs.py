@@ -29,20 +29,34 @@ def other_end(tie, place):
     return tie[1] if tie[0] == place else tie[0]
 
 
-def parts_of(web):
-    # Each place tells its whole part; rising keeps of the same ones one.
-    return rising([part_with(web, place) for place in web[0]])
+def are_tied(web, one, other):
+    return rising((one, other)) in web[1]
 
 
-def part_with(web, place):
-    found = [place]
+def of_place(web, values, place):
+    # Of a tuple that has one value for each place, in the order of the places.
+    return values[web[0].index(place)]
+
+
+def reached(web, chosen, start):
+    # In the order in which they are found, so that each but the first is tied with one ahead of it.
+    found = [start]
     looked_at = 0
     while looked_at < len(found):
-        for other in beside(web, found[looked_at]):
-            if other not in found:
-                found.append(other)
+        for place in beside(web, found[looked_at]):
+            if place in chosen and place not in found:
+                found.append(place)
         looked_at = looked_at + 1
-    return rising(found)
+    return tuple(found)
+
+
+def hangs_together(web, chosen):
+    return len(chosen) > 0 and len(reached(web, chosen, chosen[0])) == len(chosen)
+
+
+def parts_of(web):
+    # Each place tells its whole part; rising keeps of the same ones one.
+    return rising([rising(reached(web, web[0], place)) for place in web[0]])
 
 
 def counts_of(web):
