@@ -148,6 +148,21 @@ def some_row(web, chance, many):
     return tuple(row), standing
 
 
+# Rings and single ties that hang on one another like a chain, and a lone place.
+CHAIN = beside_each_other(
+    ring_of((0, 1, 2)), row_of((2, 9, 3)), ring_of((3, 4, 5)), ring_of((5, 6, 7)), lone((8,))
+)
+
+# The bars as [29] writes them.
+BARS = {
+    "bare": (row_of((0, 1)),),
+    "rows": (ring_of((0, 1, 2)), star_of(0, (1, 2, 3))),
+    "trees": (ring_of((0, 1, 2)),),
+    "rings": (((0, 1, 2, 3), ((0, 1), (0, 2), (0, 3), (1, 2), (1, 3))),),
+    "land": (all_tied(range(4)), across((0, 1), (2, 3, 4))),
+    "flat": (all_tied(range(5)), across((0, 1, 2), (3, 4, 5))),
+}
+
 RIGHT_ROW = (all_tied((0, 3, 5, 8, 13)), (("tie", 0, 3), ("draw", 8, 5), ("place", 13), ("tie", 3, 8)))
 
 
@@ -200,6 +215,31 @@ def is_laying(one, other, laying):
     )
 
 
+# Tuples of other things than a looker asks for.
+STRANGE = (
+    None,
+    "",
+    "01",
+    0,
+    (None,),
+    ("",),
+    ("01",),
+    ((None,),),
+    (("",),),
+    ((),),
+    (((),),),
+    ((), ()),
+    (-1,),
+    ((-1,),),
+    (True,),
+    ((False, True),),
+    ((0, None),),
+    ((0, "1"),),
+    ((0, (1,)),),
+    (0, "1", None),
+)
+
+
 class WebCase(unittest.TestCase):
     def told(self, function, *arguments):
         """The answer, asked for twice: the same, and of tuples, numbers, texts, truths, None."""
@@ -232,3 +272,19 @@ class WebCase(unittest.TestCase):
             with self.assertRaises(error) as caught:
                 function(*arguments)
             self.assertIs(type(caught.exception), error)
+
+
+class MakingCase(WebCase):
+    """Looks at a kind: `shows` is its looker, `made` finds a making or tells None."""
+
+    def spoilt(self, shows, web, makings):
+        for making in makings:
+            with self.subTest(web=web, making=making):
+                self.assertFalse(self.told_truth(shows, web, making))
+
+    def look_at(self, shows, made, web, is_of):
+        making = self.told(made, web)
+        self.assertEqual(making is not None, is_of, (web, making))
+        if is_of:
+            self.assertFalse(holds_truth(making), making)
+            self.assertTrue(self.told_truth(shows, web, making), (web, making))

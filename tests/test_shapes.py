@@ -1,7 +1,9 @@
 """[2], [6]: what is a whole number, what rises, what is a right web."""
 
-from tests.helper import FARTHEST, WebCase, all_tied, all_webs, is_right_web
-from webdown.shapes import is_rising, is_web, is_whole, rising
+import itertools
+
+from tests.helper import FARTHEST, STRANGE, WebCase, all_tied, all_webs, is_right_web
+from webdown.shapes import is_order, is_rising, is_web, is_whole, rising, together
 
 
 class TestWhole(WebCase):
@@ -22,6 +24,10 @@ class TestRising(WebCase):
         self.assertEqual(self.told(rising, (10, 9, 2, 10, 9)), (2, 9, 10))
         self.assertEqual(self.told(rising, [(2, 3), (1, 9), (1, 10), (2, 3)]), ((1, 9), (1, 10), (2, 3)))
 
+    def test_gathered(self):
+        self.assertEqual(together(()), [])
+        self.assertEqual(together(((3, 1), (), (1,), (2, 9))), [3, 1, 1, 2, 9])
+
     def test_looked_at(self):
         for value in ((), (5,), (1, 2), (0, 9, 10), ((1, 9), (1, 10), (2, 3)), ((), (0,), (0, 1))):
             with self.subTest(value):
@@ -29,6 +35,22 @@ class TestRising(WebCase):
         for value in ((1, 1), (2, 1), (0, 1, 1), (0, 2, 1), (1, 0, 2), ((1, 2), (1, 2))):
             with self.subTest(value):
                 self.assertIs(self.told(is_rising, value), False)
+
+
+class TestOrder(WebCase):
+    def test_each_place_once(self):
+        places = (0, 1, 9, FARTHEST)
+        for order in itertools.permutations(places):
+            self.assertIs(self.told(is_order, places, order), True)
+            self.assertIs(self.told(is_order, places, order[1:]), False)
+            self.assertIs(self.told(is_order, places, order + order[:1]), False)
+            self.assertIs(self.told(is_order, places, order[1:] + order[1:2]), False)
+        self.assertIs(self.told(is_order, (), ()), True)
+
+    def test_nothing_else(self):
+        for value in STRANGE + ((0, 1, 2), (0, 2), (False, 1), (0, True)):
+            with self.subTest(value):
+                self.assertIs(self.told(is_order, (0, 1), value), False)
 
 
 class TestWeb(WebCase):
@@ -46,7 +68,8 @@ class TestWeb(WebCase):
                 self.assertIs(self.told(is_web, value), False)
 
     def test_wrong_places(self):
-        for places in ((1, 0), (0, 0), (-1, 0), (0, "1"), (0, None), (0, (1,)), (False, 1), (0, True), tuple(range(11))):
+        strange = ((0, "1"), (0, None), (0, (1,)), (False, 1), (0, True))
+        for places in ((1, 0), (0, 0), (-1, 0), tuple(range(11))) + strange:
             with self.subTest(places):
                 self.assertIs(self.told(is_web, (places, ())), False)
         self.assertIs(self.told(is_web, ("01", ())), False)

@@ -130,7 +130,8 @@ class TestNoWeb(WebCase):
 
 class TestTooGreat(WebCase):
     def test_eleven_unlike_places(self):
-        for places in (tuple(range(11)), tuple(range(10, -1, -1)), tuple(range(10)) + (FARTHEST,), tuple(range(11)) * 2):
+        eleven = tuple(range(11))
+        for places in (eleven, eleven[::-1], eleven[:10] + (FARTHEST,), eleven * 2):
             with self.subTest(places):
                 self.refused(TooGreat, web_of, places, ())
 

@@ -1,7 +1,7 @@
 """Heaps of a little web in a great one: whether they hold, heaps behind heaps, heaps of rows and rows of heaps."""
 
 from webdown.layings import laid_ties
-from webdown.shapes import is_place, is_rising, rising
+from webdown.shapes import is_place, is_rising, rising, together
 from webdown.steps import gone_row, stepped
 from webdown.webs import are_tied, hangs_together, of_place, reached
 
@@ -28,13 +28,6 @@ def is_heap(great, heap):
 def are_apart(heaps):
     dealt = together(heaps)
     return len(set(dealt)) == len(dealt)
-
-
-def together(heaps):
-    places = []
-    for heap in heaps:
-        places.extend(heap)
-    return places
 
 
 def are_joined(great, heap, other_heap):

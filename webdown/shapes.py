@@ -16,12 +16,28 @@ def is_rising(values):
     return all([values[k] < values[k + 1] for k in range(len(values) - 1)])
 
 
+def together(tuples):
+    gathered = []
+    for values in tuples:
+        gathered.extend(values)
+    return gathered
+
+
 def is_pair(value):
     return isinstance(value, tuple) and len(value) == 2
 
 
 def is_place(places, value):
     return is_whole(value) and value in places
+
+
+def is_order(places, value):
+    # Each place once, in whatever order, and nothing else.
+    return (
+        isinstance(value, tuple)
+        and all([is_place(places, place) for place in value])
+        and tuple(sorted(value)) == places
+    )
 
 
 def are_places(value):

@@ -29,6 +29,17 @@ def other_end(tie, place):
     return tie[1] if tie[0] == place else tie[0]
 
 
+def all_beside(web):
+    # For all places at once, in one walk along the ties: a search asks for these often.
+    near = {}
+    for place in web[0]:
+        near[place] = []
+    for a, b in web[1]:
+        near[a].append(b)
+        near[b].append(a)
+    return near
+
+
 def are_tied(web, one, other):
     return rising((one, other)) in web[1]
 
@@ -40,10 +51,11 @@ def of_place(web, values, place):
 
 def reached(web, chosen, start):
     # In the order in which they are found, so that each but the first is tied with one ahead of it.
+    near = all_beside(web)
     found = [start]
     looked_at = 0
     while looked_at < len(found):
-        for place in beside(web, found[looked_at]):
+        for place in near[found[looked_at]]:
             if place in chosen and place not in found:
                 found.append(place)
         looked_at = looked_at + 1
