@@ -1,9 +1,12 @@
 """What the tests share: asking twice, looking at what is told, and webs to ask of."""
 
+import functools
 import itertools
 import unittest
 
+from webdown.comes import comes_out
 from webdown.steps import stepped, steps_of
+from webdown.webs import parts_of
 
 # The greatest and the least whole number of a hundred figures.
 FARTHEST = 10**100 - 1
@@ -110,6 +113,10 @@ def prism(names):
     return made_web(names, rings + tuple(zip(ones, others)))
 
 
+def wheel(hub, rim):
+    return beside_each_other(star_of(hub, rim), ring_of(rim))
+
+
 FAR_NAMES = (0, 7, 10, FAR, FAR + 1, FARTHEST - 1, FARTHEST)
 
 SAMPLES = (
@@ -129,6 +136,7 @@ SAMPLES = (
     beside_each_other(all_tied((0, 2, 4, 6)), star_of(3, (1, 5, 7))),
     across((0, 1, 2), (3, 4, 5)),
     prism((0, 1, 2, 3, 4, 5)),
+    wheel(6, (0, 8, 2, 5, 3, 11)),
     all_tied((0, 3, 5, 8, 13)),
     all_tied(tuple(range(10))),
     made_web(FAR_NAMES, ((0, 7), (7, FAR), (FAR, FARTHEST), (0, FARTHEST), (7, FARTHEST), (FAR + 1, FARTHEST - 1))),
@@ -153,15 +161,30 @@ CHAIN = beside_each_other(
     ring_of((0, 1, 2)), row_of((2, 9, 3)), ring_of((3, 4, 5)), ring_of((5, 6, 7)), lone((8,))
 )
 
-# The bars as [29] writes them.
+# The kinds in the order of [20], and their bars as [29] writes them.
 BARS = {
     "bare": (row_of((0, 1)),),
     "rows": (ring_of((0, 1, 2)), star_of(0, (1, 2, 3))),
     "trees": (ring_of((0, 1, 2)),),
     "rings": (((0, 1, 2, 3), ((0, 1), (0, 2), (0, 3), (1, 2), (1, 3))),),
     "land": (all_tied(range(4)), across((0, 1), (2, 3, 4))),
+    "twos": (all_tied(range(4)),),
     "flat": (all_tied(range(5)), across((0, 1, 2), (3, 4, 5))),
 }
+
+# Asked by many tests of the same webs; what it tells has tests of its own.
+some_heaps = functools.lru_cache(maxsize=None)(comes_out)
+
+
+def is_of_kind(kind, web):
+    """By the end of [29]: just where no bar of the kind comes out."""
+    return all(some_heaps(bar, web) is None for bar in BARS[kind])
+
+
+def few_placed_webs(most):
+    """All webs of at most so many places, at most five, under some names."""
+    return [web for many in range(most + 1) for web in all_webs((1, 2, 10, 21, FARTHEST)[:many])]
+
 
 RIGHT_ROW = (all_tied((0, 3, 5, 8, 13)), (("tie", 0, 3), ("draw", 8, 5), ("place", 13), ("tie", 3, 8)))
 
@@ -213,6 +236,128 @@ def is_laying(one, other, laying):
     return all(
         are_tied(one, a, b) == are_tied(other, lies_on[a], lies_on[b]) for a, b in itertools.combinations(one[0], 2)
     )
+
+
+def pairs_of(row):
+    return [tuple(sorted(pair)) for pair in zip(row, row[1:])]
+
+
+def is_rows(web, making):
+    """By the words of [22], of a tuple of tuples of whole numbers."""
+    if any(len(row) == 0 for row in making) or sorted(sum(making, ())) != list(web[0]):
+        return False
+    return sorted(pair for row in making for pair in pairs_of(row)) == list(web[1])
+
+
+def is_trees(web, making):
+    """By the words of [23], of a tuple of whole numbers."""
+    if sorted(making) != list(web[0]):
+        return False
+    return all(sum(are_tied(web, place, ahead) for ahead in making[:k]) <= 1 for k, place in enumerate(making))
+
+
+def is_rings(web, making):
+    """By the words of [24], of a tuple of tuples of whole numbers."""
+    ties, ahead = [], set()
+    for piece in making:
+        if len(piece) < 2 or len(set(piece)) < len(piece) or not set(piece) <= set(web[0]):
+            return False
+        ties += pairs_of(piece) if len(piece) == 2 else pairs_of(piece + piece[:1])
+        if len(ahead & set(piece)) > 1:
+            return False
+        ahead |= set(piece)
+    return len(ties) == len(set(ties)) and set(ties) == set(web[1])
+
+
+def is_land(web, order):
+    """By the words of [26]."""
+    fours = itertools.combinations(order, 4)
+    return not any(are_tied(web, a, c) and are_tied(web, b, d) for a, b, c, d in fours)
+
+
+def is_flat(web, turns):
+    """By the words of [27]: for each part with a tie, places less ties and the lands added are 2."""
+    turn_of = dict(zip(web[0], turns))
+    for part in parts_of(web):
+        ways = {(a, b) for a in part for b in part if are_tied(web, a, b)}
+        lands, left = 0, set(ways)
+        while left:
+            lands += 1
+            a, b = min(left)
+            while (a, b) in left:
+                left.remove((a, b))
+                turn = turn_of[b]
+                a, b = b, (turn + turn)[turn.index(a) + 1]
+        if ways and len(part) - len(ways) // 2 + lands != 2:
+            return False
+    return True
+
+
+def near_by_ways(web, gone, place):
+    """By the words of [31]: all that is tied with the place, or with a gone one to which some way of gone ones gets."""
+    found, passed = set(), {place}
+
+    def go_on(spot):
+        for other in web[0]:
+            if are_tied(web, spot, other) and other not in passed:
+                if other in gone:
+                    passed.add(other)
+                    go_on(other)
+                else:
+                    found.add(other)
+
+    go_on(place)
+    return tuple(sorted(found))
+
+
+def is_order_of_width(web, k, order):
+    """By the words of [31], of a tuple of whole numbers."""
+    if sorted(order) != list(web[0]):
+        return False
+    return all(len(near_by_ways(web, order[:spot], place)) <= k for spot, place in enumerate(order))
+
+
+def are_numbers(value):
+    return type(value) is tuple and all(type(each) is int for each in value)
+
+
+def are_tuples_of_numbers(value):
+    return type(value) is tuple and all(are_numbers(each) for each in value)
+
+
+def is_making(kind, web, making):
+    """By the words of [21] to [27], of whatever tuple."""
+    if kind == "bare":
+        return web[1] == () and making == ()
+    if kind in ("rows", "rings"):
+        return are_tuples_of_numbers(making) and (is_rows if kind == "rows" else is_rings)(web, making)
+    if kind == "flat":
+        near = [[other for other in web[0] if are_tied(web, place, other)] for place in web[0]]
+        are_turns = are_tuples_of_numbers(making) and [sorted(turn) for turn in making] == near
+        return are_turns and is_flat(web, making)
+    if not are_numbers(making) or sorted(making) != list(web[0]):
+        return False
+    if kind == "twos":
+        return is_order_of_width(web, 2, making)
+    return (is_trees if kind == "trees" else is_land)(web, making)
+
+
+def spoilings(value):
+    """The same spoilt in one way each, at each spot within it; some may be right in another way."""
+    if type(value) is int:
+        return [None, "", str(value), (), (value,), True, False, -1, value + 1, FARTHEST]
+    if type(value) is not tuple:
+        return [None, "", "other", 0, (), (value,), True]
+    spoilt = [value[::-1], value + value, (value,)]
+    for spot, each in enumerate(value):
+        ahead, behind = value[:spot], value[spot + 1 :]
+        spoilt += [ahead + behind, ahead + (each, each) + behind, value + (each,), (each,) + value]
+        spoilt += [ahead + (inner,) + behind for inner in spoilings(each) + [None, "", 0]]
+        for other in range(spot):
+            spoilt.append(value[:other] + (each,) + value[other + 1 : spot] + (value[other],) + behind)
+    for strange in (None, "", "1", 0, -1, FAR, True, (), (0,), ((),)):
+        spoilt += [value + (strange,), (strange,) + value]
+    return spoilt
 
 
 # Tuples of other things than a looker asks for.

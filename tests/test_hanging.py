@@ -3,8 +3,8 @@
 import itertools
 
 from tests.helper import BARS, CHAIN, FAR, FARTHEST, SAMPLES, STRANGE, MakingCase
-from tests.helper import all_tied, all_webs, are_tied, beside_each_other, lone, made_web, ring_of, row_of, star_of
-from webdown.comes import comes_out
+from tests.helper import all_tied, all_webs, beside_each_other, lone, made_web, ring_of, row_of, star_of
+from tests.helper import few_placed_webs, is_of_kind, is_rings, is_rows, is_trees
 from webdown.hanging import bare_making, rings_making, rows_making, trees_making
 from webdown.hanging import shows_bare, shows_rings, shows_rows, shows_trees
 
@@ -14,37 +14,6 @@ KINDS = (
     ("trees", shows_trees, trees_making),
     ("rings", shows_rings, rings_making),
 )
-
-
-def pairs_of(row):
-    return [tuple(sorted(pair)) for pair in zip(row, row[1:])]
-
-
-def is_rows(web, making):
-    """By the words of [22], of a tuple of tuples of whole numbers."""
-    if any(len(row) == 0 for row in making) or sorted(sum(making, ())) != list(web[0]):
-        return False
-    return sorted(pair for row in making for pair in pairs_of(row)) == list(web[1])
-
-
-def is_trees(web, making):
-    """By the words of [23], of a tuple of whole numbers."""
-    if sorted(making) != list(web[0]):
-        return False
-    return all(sum(are_tied(web, place, ahead) for ahead in making[:k]) <= 1 for k, place in enumerate(making))
-
-
-def is_rings(web, making):
-    """By the words of [24], of a tuple of tuples of whole numbers."""
-    ties, ahead = [], set()
-    for piece in making:
-        if len(piece) < 2 or len(set(piece)) < len(piece) or not set(piece) <= set(web[0]):
-            return False
-        ties += pairs_of(piece) if len(piece) == 2 else pairs_of(piece + piece[:1])
-        if len(ahead & set(piece)) > 1:
-            return False
-        ahead |= set(piece)
-    return len(ties) == len(set(ties)) and set(ties) == set(web[1])
 
 
 def all_pieces(places, least):
@@ -58,11 +27,9 @@ def some_makings(places, least, most):
 
 class TestEachKind(MakingCase):
     def test_a_making_wherever_no_bar_comes_out(self):
-        webs = [web for many in range(6) for web in all_webs((1, 2, 10, 21, FARTHEST)[:many])]
-        for web in webs + list(SAMPLES):
+        for web in few_placed_webs(5) + list(SAMPLES):
             for kind, shows, made in KINDS:
-                is_of = all(comes_out(bar, web) is None for bar in BARS[kind])
-                self.look_at(shows, made, web, is_of)
+                self.look_at(shows, made, web, is_of_kind(kind, web))
 
     def test_strange_things(self):
         for kind, shows, made in KINDS:

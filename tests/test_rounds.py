@@ -4,16 +4,10 @@ import itertools
 import math
 
 from tests.helper import BARS, CHAIN, FAR, FARTHEST, STRANGE, MakingCase
-from tests.helper import across, all_tied, all_webs, are_tied, beside_each_other, lone, prism, renamed, ring_of, row_of
-from tests.helper import star_of
+from tests.helper import across, all_tied, all_webs, beside_each_other, is_flat, is_land, lone, prism, renamed, ring_of
+from tests.helper import row_of, star_of, wheel
 from webdown.rounds import lands_of, shows_flat, shows_land
-from webdown.webs import beside, parts_of
-
-
-def is_land(web, order):
-    """By the words of [26]."""
-    fours = itertools.combinations(order, 4)
-    return not any(are_tied(web, a, c) and are_tied(web, b, d) for a, b, c, d in fours)
+from webdown.webs import beside
 
 
 def all_turns(web):
@@ -23,24 +17,6 @@ def all_turns(web):
         near = beside(web, place)
         choices.append([near[:1] + rest for rest in itertools.permutations(near[1:])])
     return itertools.product(*choices)
-
-
-def is_flat(web, turns):
-    """By the words of [27]: for each part with a tie, places less ties and the lands added are 2."""
-    turn_of = dict(zip(web[0], turns))
-    for part in parts_of(web):
-        ways = {(a, b) for a in part for b in part if are_tied(web, a, b)}
-        lands, left = 0, set(ways)
-        while left:
-            lands += 1
-            a, b = min(left)
-            while (a, b) in left:
-                left.remove((a, b))
-                turn = turn_of[b]
-                a, b = b, (turn + turn)[turn.index(a) + 1]
-        if ways and len(part) - len(ways) // 2 + lands != 2:
-            return False
-    return True
 
 
 class TestLand(MakingCase):
@@ -93,9 +69,8 @@ class TestFlat(MakingCase):
                 self.assertEqual(self.told_truth(shows_flat, web, turns), is_flat(web, turns), (web, turns))
 
     def test_all_turns_of_some_webs(self):
-        wheel = beside_each_other(ring_of((0, 1, 2, 3)), star_of(4, (0, 1, 2, 3)))
         two_parts = beside_each_other(all_tied((0, 2, 4, 6)), ring_of((1, 3, 5)), lone((7,)))
-        for web in (wheel, two_parts, prism(range(6)), across((0, 1), (2, 3, 4)), CHAIN):
+        for web in (wheel(4, (0, 1, 2, 3)), two_parts, prism(range(6)), across((0, 1), (2, 3, 4)), CHAIN):
             for turns in all_turns(web):
                 self.assertEqual(self.told_truth(shows_flat, web, turns), is_flat(web, turns), (web, turns))
 

@@ -3,7 +3,7 @@
 from webdown.heaps import heaps_of_row
 from webdown.inlays import inlaid
 from webdown.layings import alike, marks_of
-from webdown.steps import drawn, gone_row, renamed
+from webdown.steps import drawn_together, gone_row, renamed
 from webdown.webs import all_beside, counts_of, of_place
 
 
@@ -44,7 +44,7 @@ class Search:
         for a, b in web[1]:
             if (a, b) not in held:
                 still = [renamed(tie, b, a) for tie in held]
-                further = self.found(drawn(web, a, b), row + (("draw", a, b),), still)
+                further = self.found(drawn_together(web, a, b), row + (("draw", a, b),), still)
                 if further is not None:
                     return further
                 held.append((a, b))

@@ -19,7 +19,7 @@ def stepped(web, step):
         return without_tie(web, (step[1], step[2]))
     if step[0] == "place":
         return without_place(web, step[1])
-    return drawn(web, step[1], step[2])
+    return drawn_together(web, step[1], step[2])
 
 
 def can_be_made(web, step):
@@ -44,7 +44,7 @@ def left_places(web, gone):
     return tuple([place for place in web[0] if place != gone])
 
 
-def drawn(web, kept, gone):
+def drawn_together(web, kept, gone):
     ties = [renamed(tie, gone, kept) for tie in web[1]]
     # The tie that was drawn together has both ends in one place now, so it is none any more.
     return (left_places(web, gone), rising([tie for tie in ties if len(tie) == 2]))

@@ -3,11 +3,10 @@
 import itertools
 import random
 
-from tests.helper import BARS, CHAIN, FARTHEST, SAMPLES, MakingCase
-from tests.helper import across, all_tied, all_webs, beside_each_other, lone, made_web, ring_of, row_of, star_of
-from tests.helper import renamed
-from webdown.comes import comes_out
-from webdown.flats import flat_making, land_making
+from tests.helper import BARS, CHAIN, SAMPLES, MakingCase
+from tests.helper import across, all_tied, beside_each_other, few_placed_webs, is_of_kind, lone, made_web, renamed
+from tests.helper import ring_of, row_of, star_of
+from webdown.drawn import flat_making, land_making
 from webdown.rounds import shows_flat, shows_land
 
 KINDS = (("land", shows_land, land_making), ("flat", shows_flat, flat_making))
@@ -26,12 +25,11 @@ def full_drawing(many, chance):
 class TestMakings(MakingCase):
     def look_at_both(self, web):
         for kind, shows, made in KINDS:
-            self.look_at(shows, made, web, all(comes_out(bar, web) is None for bar in BARS[kind]))
+            self.look_at(shows, made, web, is_of_kind(kind, web))
 
     def test_all_webs_of_few_places(self):
-        for many in range(6):
-            for web in all_webs((1, 2, 10, 21, FARTHEST)[:many]):
-                self.look_at_both(web)
+        for web in few_placed_webs(5):
+            self.look_at_both(web)
 
     def test_samples(self):
         for web in SAMPLES + (CHAIN, ((), ())):

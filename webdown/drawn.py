@@ -1,4 +1,4 @@
-"""How makings of flat and of land are found: each block is drawn ring by ring, way by way, into its lands."""
+"""The kinds by drawing, land and flat: how a making is found, each block ring by ring, way by way, into its lands."""
 
 from webdown.blocks import blocks_of
 from webdown.shapes import rising, together
