@@ -317,6 +317,18 @@ def is_order_of_width(web, k, order):
     return all(len(near_by_ways(web, order[:spot], place)) <= k for spot, place in enumerate(order))
 
 
+def is_wide_paper(web, k, sets):
+    """By the words of [32], of a tuple of tuples of whole numbers."""
+    if not all(rises(each) and set(each) <= set(web[0]) for each in sets) or () not in sets or web[0] in sets:
+        return False
+    return all(
+        tuple(sorted(gone + (place,))) in sets
+        for gone in sets
+        for place in web[0]
+        if place not in gone and len(near_by_ways(web, gone, place)) <= k
+    )
+
+
 def are_numbers(value):
     return type(value) is tuple and all(type(each) is int for each in value)
 

@@ -181,6 +181,53 @@ class TestStatements(unittest.TestCase):
                         self.assertIn(right.value, (None, True, False))
 
 
+def is_plain(node, functions):
+    if isinstance(node, (ast.Tuple, ast.List)):
+        return all(is_plain(each, functions) for each in node.elts)
+    if isinstance(node, ast.Dict):
+        return all(is_plain(each, functions) for each in node.keys + node.values)
+    return isinstance(node, ast.Constant) or isinstance(node, ast.Name) and node.id in functions
+
+
+class TestTops(unittest.TestCase):
+    def test_plain_values_functions_and_classes_alone_each_name_once(self):
+        for name, tree in trees():
+            bound, functions = [], []
+            for spot, node in enumerate(tree.body):
+                with self.subTest(file=name, line=node.lineno):
+                    if isinstance(node, ast.ImportFrom):
+                        bound += [each.name for each in node.names]
+                    elif isinstance(node, ast.Assign):
+                        self.assertTrue(is_plain(node.value, functions))
+                        bound.append(node.targets[0].id)
+                    elif isinstance(node, ast.Expr):
+                        self.assertEqual((spot, type(node.value)), (0, ast.Constant))
+                    else:
+                        self.assertIsInstance(node, (ast.FunctionDef, ast.ClassDef))
+                        bound.append(node.name)
+                        functions.append(node.name)
+            with self.subTest(file=name):
+                self.assertEqual(len(bound), len(set(bound)))
+
+
+WALKED_AT_ONCE = ("zip", "enumerate", "reversed", "range")
+
+
+class TestWalks(unittest.TestCase):
+    def test_walked_on_the_spot(self):
+        for name, tree in trees():
+            walked = []
+            for node in ast.walk(tree):
+                if isinstance(node, (ast.For, ast.comprehension)):
+                    walked.append(node.iter)
+                elif isinstance(node, ast.Call) and isinstance(node.func, ast.Name):
+                    walked += node.args if node.func.id in ("min", "max") else node.args[:1]
+            for node in ast.walk(tree):
+                if isinstance(node, ast.Call) and getattr(node.func, "id", None) in WALKED_AT_ONCE:
+                    with self.subTest(file=name, line=node.lineno):
+                        self.assertTrue(any(node is each for each in walked))
+
+
 def is_set(node):
     return isinstance(node, ast.Call) and isinstance(node.func, ast.Name) and node.func.id in ("set", "frozenset")
 

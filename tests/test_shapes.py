@@ -3,7 +3,7 @@
 import itertools
 
 from tests.helper import FARTHEST, STRANGE, WebCase, all_tied, all_webs, is_right_web
-from webdown.shapes import is_order, is_rising, is_web, is_whole, rising, together
+from webdown.shapes import are_some_of, is_order, is_rising, is_web, is_whole, rising, together
 
 
 class TestWhole(WebCase):
@@ -51,6 +51,19 @@ class TestOrder(WebCase):
         for value in STRANGE + ((0, 1, 2), (0, 2), (False, 1), (0, True)):
             with self.subTest(value):
                 self.assertIs(self.told(is_order, (0, 1), value), False)
+
+
+class TestSomeOf(WebCase):
+    def test_rising_tuples_of_places(self):
+        places = (0, 1, 9, FARTHEST)
+        for many in range(5):
+            for some in itertools.permutations(places, many):
+                self.assertIs(self.told(are_some_of, places, some), list(some) == sorted(some))
+
+    def test_nothing_else(self):
+        for value in STRANGE + ((0, 2), (1, 1), (False, 1), (0, True), (0, 1, 2)):
+            with self.subTest(value):
+                self.assertIs(self.told(are_some_of, (0, 1), value), False)
 
 
 class TestWeb(WebCase):

@@ -6,23 +6,11 @@ import random
 
 from tests.helper import CHAIN, FAR, FAR_NAMES, FARTHEST, SAMPLES, STRANGE, WebCase
 from tests.helper import across, all_tied, all_webs, are_numbers, are_tuples_of_numbers, beside_each_other
-from tests.helper import few_placed_webs, is_order_of_width, is_right_web, lone, made_web, near_by_ways, prism
-from tests.helper import renamed, ring_of, rises, row_of, spoilings, star_of, wheel
+from tests.helper import few_placed_webs, is_order_of_width, is_right_web, is_wide_paper, lone, made_web
+from tests.helper import near_by_ways, prism, renamed, ring_of, row_of, spoilings, star_of, wheel
 from webdown.errors import NoPlace
 from webdown.steps import stepped, steps_of
 from webdown.widths import near, slim, width_holds, width_of
-
-
-def is_wide_paper(web, k, sets):
-    """By the words of [32], of a tuple of tuples of whole numbers."""
-    if not all(rises(each) and set(each) <= set(web[0]) for each in sets) or () not in sets or web[0] in sets:
-        return False
-    return all(
-        tuple(sorted(gone + (place,))) in sets
-        for gone in sets
-        for place in web[0]
-        if place not in gone and len(near_by_ways(web, gone, place)) <= k
-    )
 
 
 def is_told(web, k, told):

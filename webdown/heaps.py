@@ -1,7 +1,7 @@
 """Heaps of a little web in a great one: whether they hold, heaps behind heaps, heaps of rows and rows of heaps."""
 
 from webdown.layings import laid_ties
-from webdown.shapes import is_place, is_rising, rising, together
+from webdown.shapes import are_some_of, rising, together
 from webdown.steps import gone_row, stepped
 from webdown.webs import are_tied, hangs_together, of_place, reached
 
@@ -17,12 +17,7 @@ def heaps_hold(little, great, heaps):
 
 
 def is_heap(great, heap):
-    return (
-        isinstance(heap, tuple)
-        and all([is_place(great[0], place) for place in heap])
-        and is_rising(heap)
-        and hangs_together(great, heap)
-    )
+    return are_some_of(great[0], heap) and hangs_together(great, heap)
 
 
 def are_apart(heaps):

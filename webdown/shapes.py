@@ -31,6 +31,10 @@ def is_place(places, value):
     return is_whole(value) and value in places
 
 
+def are_some_of(places, value):
+    return isinstance(value, tuple) and all([is_place(places, place) for place in value]) and is_rising(value)
+
+
 def is_order(places, value):
     # Each place once, in whatever order, and nothing else.
     return (

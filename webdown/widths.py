@@ -1,7 +1,7 @@
 """Widths: the places near a place, orders of a width, and the papers that there is none."""
 
 from webdown.errors import NoPlace
-from webdown.shapes import is_order, is_pair, is_place, is_rising, rising, together
+from webdown.shapes import are_some_of, is_order, is_pair, is_place, rising, together
 from webdown.webs import all_beside, reached
 
 
@@ -58,11 +58,7 @@ def width_holds(web, k, told):
 
 
 def are_sets(web, value):
-    return isinstance(value, tuple) and all([is_set_of_places(web, each) for each in value])
-
-
-def is_set_of_places(web, value):
-    return isinstance(value, tuple) and all([is_place(web[0], place) for place in value]) and is_rising(value)
+    return isinstance(value, tuple) and all([are_some_of(web[0], each) for each in value])
 
 
 def shows_wide(web, k, sets):
