@@ -22,18 +22,23 @@ class Desk:
 
     def tell(self, line):
         said = read_line(line)
-        if not all([name in self.webs for name in said[1]]):
+        word = said[0]
+        names = said[1]
+        given = said[2]
+        if not all([name in self.webs for name in names]):
             raise NoName("no web stands under the name")
-        if said[0] in DEEDS:
-            self.do(behind_deed(self.webs, said))
+        if word in DEEDS:
+            self.do(behind_deed(self.webs, word, names, given))
             return "done"
-        if said[0] == "back":
+        if word == "back":
             self.change(self.stood_ahead, self.stood_behind)
             return "done"
-        if said[0] == "again":
+        if word == "again":
             self.change(self.stood_behind, self.stood_ahead)
             return "done"
-        return answer(self.webs, said)
+        if word == "names":
+            return words_text(sorted(self.webs))
+        return answer(word, [self.webs[name] for name in names], given)
 
     def do(self, webs):
         self.stood_ahead.append(self.webs)
@@ -47,37 +52,34 @@ class Desk:
         self.webs = taken_from.pop()
 
 
-def behind_deed(webs, said):
+def behind_deed(webs, word, names, given):
     # Another dict: the one that stood ahead stays as it is, for it may be asked back.
     changed = dict(webs)
-    if said[0] == "web":
-        changed[said[2][0]] = read_web(said[2][1])
-    elif said[0] == "step":
-        changed[said[1][0]] = stepped(webs[said[1][0]], said[2][0])
-    elif said[0] == "copy":
-        changed[said[2][0]] = webs[said[1][0]]
+    if word == "web":
+        changed[given[0]] = read_web(given[1])
+    elif word == "step":
+        changed[names[0]] = stepped(webs[names[0]], given[0])
+    elif word == "copy":
+        changed[given[0]] = webs[names[0]]
     else:
-        changed.pop(said[1][0])
+        changed.pop(names[0])
     return changed
 
 
-def answer(webs, said):
-    asked_of = [webs[name] for name in said[1]]
-    if said[0] == "names":
-        return words_text(sorted(webs))
-    if said[0] == "show":
-        return web_text(asked_of[0])
-    if said[0] == "counts":
-        return words_text([str(count) for count in counts_of(asked_of[0])])
-    if said[0] == "kind":
-        return kind_text(asked_of[0])
-    if said[0] == "of":
-        return made_text(made(said[2][0], asked_of[0]))
-    if said[0] == "width":
-        return str(width_of(asked_of[0]))
-    if said[0] == "alike":
-        return "no" if alike(asked_of[0], asked_of[1]) is None else "yes"
-    return heaps_or_no(comes_out(asked_of[0], asked_of[1]))
+def answer(word, webs, given):
+    if word == "show":
+        return web_text(webs[0])
+    if word == "counts":
+        return words_text([str(count) for count in counts_of(webs[0])])
+    if word == "kind":
+        return kind_text(webs[0])
+    if word == "of":
+        return made_text(made(given[0], webs[0]))
+    if word == "width":
+        return str(width_of(webs[0]))
+    if word == "alike":
+        return "no" if alike(webs[0], webs[1]) is None else "yes"
+    return heaps_or_no(comes_out(webs[0], webs[1]))
 
 
 def kind_text(web):
